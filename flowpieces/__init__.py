@@ -1,0 +1,1 @@
+"""Flowpieces: steps made of pieces of flows, and how good they are for all flows."""
