@@ -39,7 +39,8 @@ def are_tables(value):
     """Whether a value, whatever it is, is tables."""
     if type(value) != tuple or len(value) not in (2, 3):
         return False
-    return all([is_table(table) and len(table) == len(value[0]) for table in value])
+    # How many rows the first one has may be asked only where it is known to be a table.
+    return is_table(value[0]) and all([is_table(table) and len(table) == len(value[0]) for table in value[1:]])
 
 
 def check_tables(tables, has_two):

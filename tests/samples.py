@@ -59,6 +59,10 @@ NO_FRACTIONS = STRANGE + (
 
 NO_LENGTHS = STRANGE + ((), (1,), (1, 1), 0, -1, 7, 10**399, -(10**399))
 
+NO_LETTERS = STRANGE + (0, 1, 4, -2, 10**399, (), (2,), "2", [2])
+
+NO_LETTER = STRANGE + (2, 3, -1, 10**399, -(10**399), (), (0,), "0", [0], (0, 1))
+
 NO_WORDS = STRANGE + (
     0, 1, (3,), (-1,), (0, 3), (0, 1, 2, 3), (10**399,), (True,), (False,), (0, True), (0, False, 1), [0, 1],
     ((0,), (1,)), ("0",), (None,), ((0,),),
@@ -88,10 +92,21 @@ NO_TABLES = STRANGE + (
     (CELL, (([1, 1],),)), ((), ()), (((),), ((),)), (CELL, ()), (CELL, ((),)), (CELL, ((ONE, ONE),)),
     (CELL, ((ONE,), (ONE,))), (CELL, ((ONE, ONE), (ONE, ONE))),
     (((ONE, ONE), (ONE,)), ((ONE, ONE), (ONE, ONE))), (CELL, CELL, ((ONE, ONE), (ONE, ONE))),
+    (CELL, ((ONE, ONE), 7)), (CELL, (7, ((ONE, ONE),))), (None, CELL), (True, CELL, CELL), (0, CELL), (Hostile(), CELL),
+    (None, None, CELL), (Hostile(), Hostile()), (7, 7), ("a", CELL), (((ONE,), None), CELL), ((None,), CELL),
     (CELL, ((1,),)), (CELL, (((2, 4),),)), (CELL, (((1, 0),),)), (CELL, (((0, 0),),)), (CELL, (((1, -1),),)),
     (CELL, (((True, 1),),)), (CELL, (((1, True),),)), (CELL, CELL, None), (CELL, None), (CELL, Hostile()),
     (((NIL,) * 13,) * 13, ((NIL,) * 13,) * 13), (((NIL,) * 12,) * 13, ((NIL,) * 12,) * 13),
 )
+
+
+def with_each_place_changed(value, strange):
+    """The value with the strange one in one place after the other, however deep, itself alone left out."""
+    for at, part in enumerate(value):
+        yield value[:at] + (strange,) + value[at + 1 :]
+        if type(part) is tuple:
+            for changed in with_each_place_changed(part, strange):
+                yield value[:at] + (changed,) + value[at + 1 :]
 
 
 def random_fraction(source, most=9):

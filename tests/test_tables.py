@@ -22,6 +22,7 @@ from samples import (
     LESS,
     NIL,
     NO_FRACTIONS,
+    NO_LETTERS,
     NO_STEPS,
     NO_SUMS,
     NO_TABLES,
@@ -38,6 +39,7 @@ from samples import (
     random_table,
     table_as_numbers,
     table_as_pairs,
+    with_each_place_changed,
 )
 
 PAIR = shifts((0, 1), 2)
@@ -131,6 +133,20 @@ class WhatTheyAre(unittest.TestCase):
     def test_no_tables(self):
         for value in NO_TABLES:
             self.assertIs(are_tables(value), False)
+
+    def test_any_value_in_any_place(self):
+        for tables in ((CELL, EMPTY_CELL), (CELL, CELL, CELL), PAIR):
+            for strange in STRANGE:
+                for value in with_each_place_changed(tables, strange):
+                    self.assertIs(are_tables(value), False)
+        for value in with_each_place_changed(PAIR, None):
+            for function, arguments in (
+                (are_closed, {}), (read_in, {"terms": ()}), (step_table, {"step": (), "fraction": ONE}),
+                (flow_table, {"fraction": ONE}),
+            ):
+                with self.assertRaises(InvalidTables) as caught:
+                    function(tables=value, **arguments)
+                self.assertIs(caught.exception.given, value)
 
     def test_one_number_off(self):
         source = fixed_source(12)
@@ -316,10 +332,9 @@ class Refusals(unittest.TestCase):
         words = list(NO_WORDS) + [(0,) * 12, (1,) * 13, (2,) * 12]
         check_refused(self, shifts, right, "word", words + [(0, 2), (2,)], InvalidWord)
         check_refused(self, shifts, {"word": (0, 1), "letters": 3}, "word", words, InvalidWord)
-        letters = list(STRANGE) + [0, 1, 4, -2, 10**399, (), (2,), "2", [2]]
-        check_refused(self, shifts, right, "letters", letters, InvalidLetters)
+        check_refused(self, shifts, right, "letters", NO_LETTERS, InvalidLetters)
         # The letter 2 counts only where it is known how many letters are let.
-        check_refused(self, shifts, {"word": (0, 2), "letters": 2}, "letters", letters, InvalidLetters)
+        check_refused(self, shifts, {"word": (0, 2), "letters": 2}, "letters", NO_LETTERS, InvalidLetters)
         check_refused(self, shifts, {"word": None, "letters": None}, "word", [None, (0,) * 12, (2,) * 12], InvalidWord)
 
     def test_other_arguments(self):
