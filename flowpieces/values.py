@@ -69,3 +69,8 @@ def added(first, second):
 def multiplied(first, second):
     """The product of two fractions."""
     return fraction_of(first[0] * second[0], first[1] * second[1])
+
+
+def opposite(fraction):
+    """The opposite of a fraction."""
+    return -fraction[0], fraction[1]

@@ -44,6 +44,14 @@ def place_of(word):
     return len(word), word
 
 
+def words_of(letters, length):
+    """All words of just this length with 2 or 3 letters let, ascending."""
+    words = [()]
+    for _ in range(length):
+        words = [word + (letter,) for word in words for letter in range(letters)]
+    return words
+
+
 def check_word(word):
     """Refuse what is no word."""
     if not is_word(word):

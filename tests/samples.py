@@ -116,6 +116,14 @@ def random_fraction(source, most=9):
             return upper, lower
 
 
+def random_number(source):
+    """A fraction other than 0."""
+    while True:
+        number = random_fraction(source)
+        if number != NIL:
+            return number
+
+
 def random_sum(source, letters, most, pairs, least=0):
     words = set()
     for _ in range(pairs):

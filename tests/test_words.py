@@ -17,6 +17,7 @@ from flowpieces.words import (
     product,
     times_number,
 )
+from plain import as_dict, as_sum, plain_exponential, plain_logarithm, plain_product
 from samples import (
     HALF,
     LESS,
@@ -38,46 +39,6 @@ AHEAD, ASIDE, THIRD = (((0,), ONE),), (((1,), ONE),), (((2,), ONE),)
 BOTH = (((0,), ONE), ((1,), ONE))
 UNIT = (((), ONE),)
 LONG_THIRD = (((0,), ONE), ((0, 1, 0, 1, 0, 1, 0, 1, 0, 1, 0, 2), ONE))
-
-
-def as_dict(terms):
-    return {word: Fraction(*number) for word, number in terms}
-
-
-def as_sum(numbers):
-    words = sorted(numbers, key=lambda word: (len(word), word))
-    return tuple((word, pair_of(numbers[word])) for word in words if numbers[word])
-
-
-def plain_product(first, second, length):
-    found = {}
-    for (word, number), (behind, factor) in choices(first.items(), second.items()):
-        if len(word + behind) <= length:
-            found[word + behind] = found.get(word + behind, 0) + number * factor
-    return found
-
-
-def plain_powers(terms, numbers, length):
-    """The numbers times the powers of the sum, one power after the other."""
-    power, found = {(): Fraction(1)}, {}
-    for number in numbers:
-        for word, factor in power.items():
-            found[word] = found.get(word, 0) + number * factor
-        power = plain_product(power, as_dict(terms), length)
-    return as_sum(found)
-
-
-def plain_exponential(terms, length):
-    numbers = [Fraction(1)]
-    for power in range(1, length + 1):
-        numbers.append(numbers[-1] / power)
-    return plain_powers(terms, numbers, length)
-
-
-def plain_logarithm(terms, length):
-    numbers = [Fraction(0)] + [Fraction((-1) ** (power + 1), power) for power in range(1, length + 1)]
-    rest = tuple(pair for pair in terms if pair[0] != ())
-    return plain_powers(rest, numbers, length)
 
 
 class Examples(unittest.TestCase):
