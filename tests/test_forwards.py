@@ -271,6 +271,26 @@ class OrdersWithMeanings(unittest.TestCase):
                 told = self.check_with(step + behind, missing)
                 self.assertGreaterEqual(told, length)
 
+    def test_long_brackets_between_the_pieces_of_right_steps(self):
+        source = fixed_source(100)
+        for order in (1, 2, 3, 4):
+            step = step_towards(STRAIGHT, order)
+            for word in all_least(6):
+                if len(word) not in (order, order + 1, 6) or len(word) == 1:
+                    continue
+                meaning = times_number(nested(word), source.choice(((1, 5), (-3, 7), (2, 121))))
+                at = source.randint(0, len(step))
+                middle = ((2, random_number(source)),) + step[at:] + ((2, (1, 13)),)
+                self.assertEqual(self.check_with(step[:at] + middle, meaning), min(order, len(word) - 1))
+
+    def test_pieces_and_meanings_with_unlike_denominators(self):
+        sevenths, elevenths = ((1, (1, 7)), (0, ONE), (1, (6, 7))), ((0, (1, 11)), (1, ONE), (0, (10, 11)))
+        for step in (sevenths, elevenths):
+            for word in ((0, 1), (0, 0, 1), (0, 1, 1)):
+                meaning = times_number(nested(word), (1, 5))
+                self.assertEqual(self.check_with(step + ((2, (1, 3)),), meaning), 1)
+                self.assertEqual(self.check_with(((2, (1, 3)),) + step, meaning), 1)
+
     def test_the_last_length_is_six(self):
         for step, meaning in ((((2, ONE),), STRAIGHT), (((2, HALF), (0, NIL), (2, HALF)), STRAIGHT)):
             self.assertEqual(self.check_with(step, meaning), 6)
