@@ -4,8 +4,6 @@ The functions of the interface check their arguments; those called table_.. take
 tables that were checked before.
 """
 
-from math import lcm
-
 from flowpieces.errors import InvalidTables, InvalidWord, NotClosed
 from flowpieces.steps import check_step, step_has_two
 from flowpieces.values import (
@@ -17,6 +15,7 @@ from flowpieces.values import (
     fraction_of,
     is_fraction,
     multiplied,
+    over_one_number,
 )
 from flowpieces.words import check_sum, check_word, sum_at, sum_has_two
 
@@ -80,17 +79,6 @@ def table_product(first, second):
     rows = [over_one_number(row) for row in first]
     columns = [over_one_number(column) for column in zip(*second)]
     return tuple([tuple([pairwise_product(row, column) for column in columns]) for row in rows])
-
-
-def over_one_number(fractions):
-    """Whole numbers and one number below them all, for fractions.
-
-    Whole numbers are added and multiplied much faster than fractions.
-    """
-    lower = 1
-    for number in fractions:
-        lower = lcm(lower, number[1])
-    return [number[0] * (lower // number[1]) for number in fractions], lower
 
 
 def pairwise_product(row, column):

@@ -75,3 +75,43 @@ def plain_order_and_miss(step, letters, meanings=None):
         if any(part.values()):
             return length - 1, as_sum(part)
     return last, None
+
+
+def plain_rest(numbers, rows):
+    """What is left of a sum when rows that begin with 1 are taken away from it."""
+    rest, left = {word: number for word, number in numbers.items() if number}, {}
+    while rest:
+        lead = min(rest)
+        factor = rest.pop(lead)
+        if lead not in rows:
+            left[lead] = factor
+            continue
+        for word, number in rows[lead].items():
+            if word != lead:
+                rest[word] = rest.get(word, 0) - factor * number
+        rest = {word: number for word, number in rest.items() if number}
+    return left
+
+
+def plain_multiples(relations, letters, length):
+    """Rows, each told by its first word, of which all sums of multiples of u r v of a length are made."""
+    rows = {}
+    for relation in relations:
+        rest = length - len(relation[0][0])
+        for many in range(rest + 1):
+            for ahead, behind in choices(all_words(letters, many, many), all_words(letters, rest - many, rest - many)):
+                left = plain_rest({ahead + word + behind: Fraction(*number) for word, number in relation}, rows)
+                if left:
+                    lead = min(left)
+                    rows[lead] = {word: number / left[lead] for word, number in left.items()}
+    return rows
+
+
+def plain_vanishes(relations, terms, length):
+    """Whether each part of a sum up to a length is a sum of multiples of u r v, by those with all three letters."""
+    letters = 3 if any(2 in word for part in (*relations, terms) for word, _ in part) else 2
+    for reached in range(length + 1):
+        part = {word: Fraction(*number) for word, number in terms if len(word) == reached}
+        if plain_rest(part, plain_multiples(relations, letters, reached)):
+            return False
+    return True
