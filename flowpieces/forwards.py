@@ -30,6 +30,12 @@ def has_back(step, letter):
     return any([other == letter and number[0] < 0 for other, number in step_short(step)])
 
 
+def lag_in(miss):
+    """The lag of a step of the order 2 at least by its miss, None at the last length."""
+    # The miss of a step of a greater order has longer words alone.
+    return NIL if miss is None else added(sum_at(miss, (0, 0, 1)), sum_at(miss, (0, 1, 1)))
+
+
 def lag_of(step):
     """The lag of a step over the letters 0 and 1 of the order 2 at least, a fraction."""
     check_step(step)
@@ -38,9 +44,7 @@ def lag_of(step):
     order, miss = step_order_and_miss(step, 2)
     if order < 2:
         raise NotRight()
-    if order > 2:
-        return NIL
-    return added(sum_at(miss, (0, 0, 1)), sum_at(miss, (0, 1, 1)))
+    return lag_in(miss)
 
 
 def least_lag(many):
