@@ -14,7 +14,7 @@ from flowpieces.rules import (
 )
 from flowpieces.series import THEMSELVES
 from flowpieces.steps import check_step_over, step_short
-from flowpieces.values import NIL, ONE, check_length, is_between, multiplied, total_of
+from flowpieces.values import NIL, check_length, is_between, multiplied, total_of
 from flowpieces.words import check_sum, is_sum, sum_has_two, words_of
 
 MOST_RELATIONS = 4
@@ -159,7 +159,7 @@ def kept_order_and_weights(step, letters, relations):
         free = free_words(rules, letters, length)
         # Where all brackets of a length are nought there is no need of the series.
         miss = miss_part(pieces, THEMSELVES, letters, length) if free else ()
-        for word in free:
+        for word in free if miss != () else []:
             # As all is right at shorter lengths, the miss is a sum of brackets with the relations. So its
             # normal form, if not nought, begins with a least word.
             telling = normal_weights(word, rules, letters)

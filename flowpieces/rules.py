@@ -11,16 +11,17 @@ as sums differ with the relations (Poincare, Birkhoff, Witt; Lalonde and Ram 199
 
 from math import gcd, lcm
 
-from flowpieces.values import NIL, ONE, fraction_of, multiplied, opposite, total_of
+from flowpieces.brackets import bracket_numbers, words_least
+from flowpieces.values import NIL, ONE, fraction_of, multiplied, total_of
 from flowpieces.wholes import whole_bracket, whole_plus
 from flowpieces.words import sum_of, words_of
 
 
 class Rule:
-    """A sum over whole numbers, and how much of which brackets of relations it is.
+    """A sum of brackets over whole numbers, and how much of which brackets of relations it is.
 
     The brackets are told by tuples: the index of a relation and the letters with which it is bracketed,
-    one after the other.
+    one after the other. As long as rules are looked for, the sum is told by its numbers at least words alone.
     """
 
     def __init__(self, numbers, source):
@@ -72,27 +73,52 @@ def rules_with(rules, rule):
     return [without_lead(other, rule) for other in rules] + [rule]
 
 
+def at_least_words(numbers, letters, length):
+    """The numbers of a sum at the least words of a length."""
+    return {word: numbers[word] for word in words_least(letters, length) if word in numbers}
+
+
+def by_least_words(numbers, letters, length):
+    """The sum of brackets of a length that has these numbers at the least words."""
+    rest, made = numbers, {}
+    for word in words_least(letters, length):
+        number = rest.get(word, 0)
+        if number != 0:
+            # The bracket of the word has greater words beside it alone.
+            nested = bracket_numbers(word)
+            made = whole_plus(made, nested, number)
+            rest = whole_plus(rest, at_least_words(nested, letters, length), -number)
+    return made
+
+
+def longer_brackets(brackets, letters, length):
+    """Brackets that are one shorter than a length, with each letter: pairs of a path and numbers."""
+    return [
+        (path + (letter,), whole_bracket(numbers, {(letter,): 1}, length))
+        for path, numbers in brackets
+        for letter in range(letters)
+    ]
+
+
 def rules_of(relations, letters, length, with_sources):
     """The rules of relations up to a length, by their leads; without sources they are found faster."""
     wholes = [whole_relation(relation)[0] for relation in relations]
     found = {}
     brackets = []
     for reached in range(2, length + 1):
-        longer = [
-            (path + (letter,), whole_bracket(numbers, {(letter,): 1}, reached))
-            for path, numbers in brackets
-            for letter in range(letters)
-        ]
+        longer = longer_brackets(brackets, letters, reached)
         longer.extend([((index,), numbers) for index, numbers in enumerate(wholes) if len(min(numbers)) == reached])
         rules, brackets = [], []
         for path, numbers in longer:
-            more = rules_with(rules, Rule(numbers, {path: ONE} if with_sources else {}))
+            # The numbers at least words tell a sum of brackets, and are fewer.
+            rule = Rule(at_least_words(numbers, letters, reached), {path: ONE} if with_sources else {})
+            more = rules_with(rules, rule)
             # What follows from other brackets does so with each letter, too.
             if more is not None:
                 rules = more
                 brackets.append((path, numbers))
         for rule in rules:
-            found[rule.lead] = rule
+            found[rule.lead] = Rule(by_least_words(rule.numbers, letters, reached), rule.source)
     return found
 
 

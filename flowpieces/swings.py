@@ -19,7 +19,7 @@ from flowpieces.polynomials import (
 from flowpieces.roots import near_square_root
 from flowpieces.series import THEMSELVES
 from flowpieces.steps import check_step, step_has_two, step_short
-from flowpieces.values import ONE, added, fraction_of, is_between, is_fraction, multiplied, opposite, over_one_number
+from flowpieces.values import ONE, added, fraction_of, is_between, is_fraction, multiplied
 
 MOST_NEAR = 10**6
 

@@ -4,15 +4,15 @@ import unittest
 from fractions import Fraction
 from itertools import product as choices
 
-from flowpieces.brackets import coordinates, least_words, nested, shuffles
+from flowpieces.brackets import coordinates, nested, shuffles
 from flowpieces.checker import accepts
 from flowpieces.orders import change_followed, miss_of, order_of, step_towards
 from flowpieces.parts import in_parts, raises, unraised_step
 from flowpieces.processed import leading_in, processed_order
 from flowpieces.relations import kept_order, kept_weights
-from flowpieces.steps import joined, mirrored, parting_word, series_of, short_form, timed, undoing, whole_of
+from flowpieces.steps import joined, mirrored, parting_word, series_of, timed, undoing, whole_of
 from flowpieces.swings import swing_bound, swing_word
-from flowpieces.words import exponential, logarithm, number_at, plus, product, times_number
+from flowpieces.words import exponential, logarithm, plus, product, times_number
 from plain import all_words, plain_multiples, plain_order_and_miss, plain_series
 from samples import (
     HALF,

@@ -10,7 +10,7 @@ from flowpieces.parts import in_parts
 from flowpieces.processed import leading_in, leading_step, processed_order
 from flowpieces.steps import is_step, joined, timed, undoing
 from flowpieces.words import bracket, exponential, plus, times_number
-from plain import as_dict, plain_exponential, plain_order_and_miss, plain_product, plain_series, plain_whole
+from plain import as_dict, plain_exponential, plain_product, plain_series, plain_whole
 from samples import (
     HALF,
     LESS,

@@ -17,7 +17,7 @@ from flowpieces.relations import (
 )
 from flowpieces.steps import series_of, undoing, whole_of
 from flowpieces.tables import are_closed, flow_table, read_in, step_table
-from flowpieces.words import is_sum, part_of, plus, product, times_number
+from flowpieces.words import is_sum, part_of, plus, times_number
 from plain import as_dict, plain_multiples, plain_rest, plain_series, plain_vanishes, plain_whole
 from samples import (
     HALF,

@@ -33,7 +33,6 @@ from samples import (
     pair_of,
     random_fraction,
     random_step,
-    table_as_numbers,
     table_as_pairs,
 )
 
