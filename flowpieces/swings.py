@@ -105,15 +105,15 @@ def leaving_polynomial(step):
     4 less the square of the trace is 0 there. Where it only touches 0 the step stays if M is 1 or -1,
     and so just if the numbers beside the slant and the difference of those on it are 0.
     """
-    first, above, below, second, lower = swing_polynomials(step)
+    first, above, below, second, _ = swing_polynomials(step)
     trace = poly_plus(first, second, 1)
-    gap = poly_plus([4 * lower * lower], poly_times(trace, trace), -1)
+    square = poly_times(trace, trace)
     common = common_divisor(without_divisor(above), without_divisor(below))
     slant = without_divisor(poly_plus(first, second, -1))
     if slant != []:
         common = common_divisor(common, slant)
-    # The trace begins with 2 - h h. Each root of the common divisor is one of the gap twice.
-    rest = poly_quotient(without_divisor(gap[1:]), without_divisor(poly_times(common, common)))
+    # The trace begins with 2 - h h, its square so with 4. Each root of the common divisor is one twice.
+    rest = poly_quotient(without_divisor(square[1:]), without_divisor(poly_times(common, common)))
     made = [1]
     for at, factor in enumerate(factors_by_power(rest)):
         if at % 2 == 1:

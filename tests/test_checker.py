@@ -156,6 +156,15 @@ class AllClaims(Case):
         ):
             self.check_refused(claim, paper)
 
+    def test_other_numbers_of_letters(self):
+        for letters in (0, 1, 4, -2, None, "2", (2,), 10**399):
+            self.check_refused(("order", LEAD, letters, 1), (0, 1))
+            self.check_refused(("order", (), letters, 0), (0,))
+            self.check_refused(("processed", LEAD, letters, 2), (((0,), (-1, 2)),))
+            self.check_refused(("processed", (), letters, 0), ())
+            self.check_refused(("kept order", LEAD, letters, (), 1), (((0, 1), ONE),))
+            self.check_refused(("kept order", LEAD, letters, (SWAP,), 6), ())
+
     def test_other_words(self):
         for word in ("", "Alike", "alike ", "likeness", "no raise", "kept", "ways", "step", "symmetric", b"alike", ("alike",), None):
             self.check_refused((word, LEAD, LEAD), ())
@@ -183,6 +192,21 @@ class Likeness(Case):
             for word in all_words(3, 3):
                 self.check_refused(("unlike", step, other), word)
             self.check_refused(("alike", step, other), (0,))
+
+    def test_pieces_that_cancel_one_another(self):
+        step = ((0, ONE), (1, ONE), (0, LESS), (1, LESS))
+        for word, told in (
+            ((0, 0), False), ((0, 0, 0), False), ((0,) * 12, False), ((1, 1), False), ((0, 1), True), ((1, 0), True), ((0, 0, 1), True),
+            ((0, 1, 1), True), ((0, 0, 1, 1), True), ((1, 0, 1, 0), False), ((0, 1, 0, 1), True), ((2,), False), ((0, 2, 1), False),
+        ):
+            self.assertIs(accepts(("unlike", step, ()), word), told)
+            self.assertIs(accepts(("unlike", ((0, ONE), (1, ONE)), ((1, ONE), (0, ONE))), word), told)
+        self.assertEqual(plain_series(step, 4).get((1, 0, 1, 0), 0), 0)
+        # 3 - 4 + 1: half the squares and the products are 9 / 2 + 8 + 1 / 2 - 12 + 3 - 4.
+        step = ((0, (3, 1)), (1, ONE), (0, (-4, 1)), (1, ONE), (0, ONE))
+        series = plain_series(step, 6)
+        for word in all_words(2, 6):
+            self.assertIs(accepts(("unlike", step, ()), word), word != () and series.get(word, 0) != 0)
 
     def test_long_words(self):
         for first in (tuple((at % 2, (1, at + 1)) for at in range(60)), tuple((at % 2, WIDE) for at in range(20))):

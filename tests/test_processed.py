@@ -6,8 +6,9 @@ from fractions import Fraction
 from flowpieces.brackets import is_bracket_sum, is_of_flow, least_words, nested
 from flowpieces.errors import InvalidLetters, InvalidStep, NotRight
 from flowpieces.orders import order_of, step_towards
-from flowpieces.parts import in_parts
+from flowpieces.parts import in_parts, raises_twice
 from flowpieces.processed import leading_in, leading_step, processed_order
+from flowpieces.relations import kept_order, kept_weights
 from flowpieces.steps import is_step, joined, timed, undoing
 from flowpieces.words import bracket, exponential, plus, times_number
 from plain import as_dict, plain_exponential, plain_product, plain_series, plain_whole
@@ -174,6 +175,19 @@ class ProcessedOrders(Checks):
         self.assertEqual(order_behind(leading, step, 2), 6)
         self.assertGreaterEqual(order_of(behind(leading_step(step, 2), step), 2), 4)
         self.assertEqual(self.check_processed(behind(((2, ONE),), step_towards(straight(3), 4)), 3), 4)
+
+    def test_orders_above_the_last_length(self):
+        # 27, 84, 110 and 133 to the power 5 are together 144 to the power 5.
+        ends = ((1, 4), (1, 3), (5, 12), (-1, 2), (-1, 2), (5, 12), (1, 3), (1, 4))
+        half = ((9, 140), (1, 5), (11, 42), (19, 60), (-12, 35))
+        step = in_parts(in_parts(LEAP3, ends), half + half[::-1])
+        self.assertIs(raises_twice(half + half[::-1], 4), True)
+        self.assertEqual((order_of(step, 3), processed_order(step, 3), leading_in(step, 3)), (4, 4, ()))
+        changed = behind(((0, HALF), (2, LESS)), step)
+        self.assertEqual((order_of(changed, 3), processed_order(changed, 3)), (1, 4))
+        self.assertTrue(all(len(word) < 4 for word, _ in leading_in(changed, 3)))
+        self.assertGreaterEqual(order_of(behind(leading_step(changed, 3), changed), 3), 3)
+        self.assertEqual((kept_order(step, 3, ()), kept_weights(step, 3, ())), (4, None))
 
     def test_parts_and_processed_orders(self):
         source = fixed_source(125)

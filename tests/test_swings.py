@@ -284,6 +284,33 @@ class Bounds(unittest.TestCase):
             near, words = self.check_bound(step, 10**4)
             self.assertTrue(near[1] or any(word != "stays" for word in words))
 
+    def test_turning_round_and_growing_there(self):
+        # At 9 / 4 it is 1 or - 1, and the square of the trace passes 4.
+        step = (
+            (1, (4, 9)), (0, (-4, 3)), (1, (-1, 9)), (0, (8, 3)), (1, (-2, 9)), (0, (-2, 3)), (1, (8, 9)), (0, (1, 3)),
+        )
+        place = Fraction(9, 4)
+        first, above, below, second = plain_swing(step, place)
+        self.assertEqual((above, below, abs(first)), (0, 0, 1))
+        self.assertEqual(first, second)
+        self.assertEqual(plain_word(step, place + Fraction(1, 10**6)), "grows")
+        self.assertEqual([plain_word(step, place * Fraction(at, 60)) for at in range(1, 61)], ["stays"] * 60)
+        for many in (1, 4, 1000):
+            self.assertEqual(swing_bound(step, many), (9 * many // 4, many > 1))
+
+    def test_turning_round_and_going_on(self):
+        # At 4 it is 1 or - 1, and not what it is behind each other: it goes on up to the root of 32.
+        for step in (
+            ((0, (1, 4)), (1, (-1, 2)), (0, (-1, 16)), (1, (1, 1)), (0, (1, 4)), (1, (1, 3)), (0, (9, 16)), (1, (1, 6))),
+            ((1, (-1, 6)), (0, (3, 4)), (1, (1, 4)), (0, (3, 8)), (1, (2, 3)), (0, (1, 8)), (1, (1, 4)), (0, (-1, 4))),
+        ):
+            first, above, below, second = plain_swing(step, Fraction(4))
+            self.assertEqual((above, below, abs(first)), (0, 0, 1))
+            self.assertEqual(first, second)
+            self.assertEqual([plain_word(step, Fraction(at, 10)) for at in range(1, 57)], ["stays"] * 56)
+            self.assertEqual(swing_bound(step, 10**6), (5656854, False))
+            self.check_bound(step, 1000)
+
     def test_hardly_another_step(self):
         # Parts of a step that would turn round, changed by so little: it grows or creeps near there.
         little = Fraction(1, 10**399)
@@ -489,6 +516,8 @@ class Polynomials(unittest.TestCase):
         self.assertEqual(common_divisor([1, prime], [1, 2 * prime]), [1])
         self.assertEqual(common_divisor([1, 0, prime], [1, prime]), [1])
         self.assertEqual(common_divisor([prime, 1], [0, 1]), [1])
+        self.assertEqual(common_divisor(poly_times([1, prime], [1, 1]), poly_times([2, 1], [1, 1])), [1, 1])
+        self.assertEqual(common_divisor(poly_times([2, 1], [1, 1]), poly_times([1, prime], [1, 1])), [1, 1])
 
     def test_roots_by_how_often_they_are_there(self):
         one, two, three = [1, 1], [2, 1], [-3, 2]
@@ -505,6 +534,8 @@ class Polynomials(unittest.TestCase):
         self.assertEqual(near_square_root(poly_times([1, -1], poly_times([2, -1], [3, -1])), 8, 100), (100, True))
         self.assertEqual(near_square_root(poly_times([5, -2], [5000001, -2 * 10**6]), 8, 10**6), (1581138, False))
         self.assertEqual(near_square_root(poly_times([5, -2], [1, 0, 1]), 8, 2), (3, False))
+        # The other root is where the place of the smallest one ends.
+        self.assertEqual(near_square_root(poly_times([5, -2], [4, -1]), 8, 1000), (1581, False))
 
 
 class Refusals(unittest.TestCase):
