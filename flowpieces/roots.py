@@ -1,4 +1,4 @@
-"""The smallest root above 0 of a polynomial over whole numbers without double roots (flowpieces.polynomials)."""
+"""The smallest root above 0 of a polynomial over whole numbers (flowpieces.polynomials) without double roots."""
 
 from flowpieces.polynomials import poly_at, without_divisor
 
@@ -33,7 +33,10 @@ def sign_changes(numbers):
 
 
 def most_roots(numbers):
-    """A number that is 0 or 1 just if so many roots lie between 0 and 1, and else at least as great as theirs."""
+    """How many roots lie between 0 and 1 at most; where this is 0 or 1, just so many lie there.
+
+    Near enough to a root, and away from all of them, it is so.
+    """
     # Descartes' rule for what stands at 1 / (x + 1).
     return sign_changes(moved(list(reversed(numbers))))
 
